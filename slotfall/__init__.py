@@ -1,0 +1,1 @@
+"""Slotfall: the order in which reference counting destroys objects under a recursion limit."""

@@ -1,0 +1,141 @@
+"""The rules of the language subset that a look at the source can decide."""
+
+import ast
+import pathlib
+import re
+import unittest
+import warnings
+
+PACKAGE = pathlib.Path(__file__).resolve().parent.parent / "slotfall"
+FILES = sorted(path for path in PACKAGE.rglob("*") if path.is_file() and "__pycache__" not in path.parts)
+
+BUILTINS = set("""len range enumerate zip min max sum abs sorted reversed int str bool bytes list tuple dict set isinstance
+    ord repr any all divmod Exception ValueError TypeError KeyError IndexError LookupError ZeroDivisionError
+    ArithmeticError OverflowError RuntimeError NotImplementedError AttributeError""".split())
+METHODS = set("""append clear copy count endswith extend find get index insert isalnum isalpha isdigit islower isspace
+    isupper items join keys ljust lower lstrip partition pop remove replace reverse rfind rjust rpartition rsplit rstrip
+    setdefault split splitlines startswith strip update upper values zfill bit_length""".split())
+BARRED_NAMES = set("""register mro elements open input law version_info with_traceback add_note attrgetter breakpoint
+    builtins compile copyright credits delattr dir eval exec exit gc globals help id importlib license locals
+    methodcaller os quit super type vars hash next map round filter format print sys""".split())
+BARRED_WORDS = re.compile(r"\b(type|typing|enum|Enum|IntEnum|Flag|Generic|Protocol|ABC|namedtuple|NamedTuple)\b")
+NODES = (ast.Global, ast.AsyncFunctionDef, ast.GeneratorExp, ast.Yield, ast.YieldFrom, ast.Try, ast.Div, ast.Lambda,
+         ast.AnnAssign, ast.Set, ast.SetComp, ast.NamedExpr, ast.With, ast.Starred, ast.JoinedStr)
+
+
+class LanguageTest(unittest.TestCase):
+    def sources(self):
+        for path in FILES:
+            text = path.read_text(encoding="utf-8")
+            with warnings.catch_warnings():
+                warnings.simplefilter("error")
+                yield path, text, ast.parse(text)
+
+    def walk(self, *kinds):
+        for path, _, tree in self.sources():
+            for found in ast.walk(tree):
+                if isinstance(found, kinds):
+                    yield f"{path.name}:{getattr(found, 'lineno', 0)}", found
+
+    def test_files(self):
+        self.assertIn(PACKAGE / "__init__.py", FILES)
+        for path in FILES:
+            self.assertEqual(path.suffix, ".py")
+            self.assertRegex(path.stem, r"^([a-z][a-z0-9_]*|__init__|__main__)$")
+
+    def test_sizes_and_characters(self):
+        for path, text, tree in self.sources():
+            lines = text.split("\n")
+            self.assertLessEqual(len(lines), 399, path.name)
+            self.assertLessEqual(max(len(line) for line in lines), 120, path.name)
+            self.assertRegex(text, r"\A[ -~\n]*\Z", path.name)
+        for place, found in self.walk(ast.FunctionDef):
+            self.assertLessEqual(found.end_lineno - found.lineno + 1, 40, place)
+
+    def test_module_level(self):
+        for path, _, tree in self.sources():
+            for index, found in enumerate(tree.body):
+                docstring = index == 0 and isinstance(found, ast.Expr) and isinstance(found.value, ast.Constant)
+                plain = (ast.ImportFrom, ast.FunctionDef, ast.ClassDef, ast.Assign)
+                self.assertTrue(docstring or isinstance(found, plain), f"{path.name}:{found.lineno}")
+
+    def test_imports(self):
+        for place, _ in self.walk(ast.Import):
+            self.fail(place)
+        for place, found in self.walk(ast.ImportFrom):
+            self.assertEqual(found.level, 0, place)
+            self.assertTrue(found.module.startswith("slotfall."), place)
+            source = PACKAGE / (found.module.split(".")[1] + ".py")
+            defined = {node.name for node in ast.parse(source.read_text()).body if hasattr(node, "name")}
+            for name in found.names:
+                self.assertIn(name.name, defined, place)
+                self.assertIsNone(name.asname, place)
+
+    def test_no_two_files_import_from_each_other(self):
+        needs = {path.stem: set() for path in FILES}
+        for path, _, tree in self.sources():
+            for found in ast.walk(tree):
+                if isinstance(found, ast.ImportFrom):
+                    needs[path.stem].add(found.module.split(".")[1])
+        while needs:
+            free = [name for name in needs if not needs[name] & set(needs)]
+            self.assertTrue(free, f"a circle of imports among {sorted(needs)}")
+            for name in free:
+                del needs[name]
+
+    def test_what_the_program_does_without(self):
+        # The subset allows most of these in some places; the program has not needed them yet.
+        for place, found in self.walk(*NODES):
+            self.fail(f"{place}: {type(found).__name__}")
+
+    def test_builtins_and_methods(self):
+        for path, _, tree in self.sources():
+            bound = {n.name for n in ast.walk(tree) if isinstance(n, (ast.FunctionDef, ast.ClassDef))}
+            bound |= {n.arg for n in ast.walk(tree) if isinstance(n, ast.arg)}
+            bound |= {n.id for n in ast.walk(tree) if isinstance(n, ast.Name) and isinstance(n.ctx, ast.Store)}
+            bound |= {n.name for found in ast.walk(tree) if isinstance(found, ast.ImportFrom) for n in found.names}
+            self.assertFalse(bound & (BUILTINS | BARRED_NAMES), path.name)
+            used = {n.id for n in ast.walk(tree) if isinstance(n, ast.Name)}
+            self.assertFalse(used - bound - BUILTINS, path.name)
+        own = {found.name for _, found in self.walk(ast.FunctionDef)}
+        for place, found in self.walk(ast.Call):
+            if isinstance(found.func, ast.Attribute):
+                self.assertIn(found.func.attr, METHODS | own, place)
+
+    def test_imported_names_are_not_hidden(self):
+        for path, _, tree in self.sources():
+            outer = {n.name for found in tree.body if isinstance(found, ast.ImportFrom) for n in found.names}
+            outer |= {found.name for found in tree.body if isinstance(found, (ast.FunctionDef, ast.ClassDef))}
+            for found in ast.walk(tree):
+                if isinstance(found, ast.arg):
+                    self.assertNotIn(found.arg, outer, path.name)
+                if isinstance(found, ast.Name) and isinstance(found.ctx, ast.Store):
+                    self.assertNotIn(found.id, outer, path.name)
+
+    def test_names_and_strings(self):
+        for place, found in self.walk(ast.Name, ast.arg, ast.Attribute, ast.FunctionDef, ast.ClassDef):
+            name = getattr(found, "id", None) or getattr(found, "arg", None) or getattr(found, "attr", None)
+            name = name or found.name
+            self.assertRegex(name, r"^(_?[A-Za-z][A-Za-z0-9_]*|_|__init__)$", place)
+            self.assertNotRegex(name, r"^_(wall|pe_|dcw_|enum_|cm_|twin_re_|lay_|law_|stub_|sre|outside|record)", place)
+        for place, found in self.walk(ast.Constant):
+            self.assertNotIsInstance(found.value, (float, complex), place)
+            if isinstance(found.value, str):
+                self.assertNotIn(chr(37), found.value, place)
+
+    def test_barred_words(self):
+        for path, text, tree in self.sources():
+            for found in ast.walk(tree):
+                if isinstance(found, (ast.Module, ast.FunctionDef, ast.ClassDef)) and ast.get_docstring(found):
+                    found.body[0].value.value = ""
+            self.assertIsNone(BARRED_WORDS.search(ast.unparse(tree)), path.name)
+
+    def test_functions(self):
+        for place, found in self.walk(ast.FunctionDef):
+            self.assertEqual(found.decorator_list, [], place)
+            for default in found.args.defaults + [value for value in found.args.kw_defaults if value is not None]:
+                self.assertIsInstance(default, ast.Constant, place)
+
+
+if __name__ == "__main__":
+    unittest.main()
