@@ -1,0 +1,119 @@
+"""Points 3, 4 and 14: arguments stay as they are, results are new, every argument may be given by its name."""
+
+import copy
+import inspect
+import unittest
+
+from slotfall import errors, fatechecker, fates, heaps, machine, reach, reachchecker, tracing
+from tests.support import HEAPS, RING, TREE, StrictCase, lists_of
+
+LISTED = [[[1, 2], [2, None], [0], None], [1, 0, 0, 0]]
+
+# Each call: the function, its arguments in their order, and those behind the star. Some of them raise an error.
+CALLS = [
+    (heaps.is_heap, {"value": TREE}, {}),
+    (heaps.is_heap, {"value": LISTED}, {}),
+    (heaps.make_heap, {"slots": LISTED[0], "outside": LISTED[1]}, {}),
+    (heaps.make_heap, {"slots": LISTED[0], "outside": [1, 0, 0, 1]}, {}),
+    (heaps.live_nodes, {"heap": TREE}, {}),
+    (heaps.counts, {"heap": TREE}, {}),
+    (heaps.holders, {"heap": TREE, "node": 3}, {}),
+    (heaps.holders, {"heap": TREE, "node": [3]}, {}),
+    (reach.reachable, {"heap": RING}, {}),
+    (reach.reach_certificate, {"heap": RING, "node": 3}, {}),
+    (reach.reach_certificate, {"heap": RING, "node": [[3]]}, {}),
+    (reachchecker.check_reach, {"heap": RING, "node": 3, "value": ("reached", (0, 1, 2, 3))}, {}),
+    (reachchecker.check_reach, {"heap": RING, "node": 3, "value": ["reached", [0, 1, 2, 3]]}, {}),
+    (machine.drop, {"heap": TREE, "node": 0}, {"limit": 2}),
+    (machine.drop, {"heap": TREE, "node": [0]}, {"limit": 2}),
+    (machine.set_slot, {"heap": TREE, "node": 0, "slot": 1, "target": 3}, {"limit": 2}),
+    (machine.set_slot, {"heap": TREE, "node": 0, "slot": 1, "target": [3]}, {"limit": 2}),
+    (machine.empty_slots, {"heap": RING, "node": 2}, {"limit": 1}),
+    (machine.empty_slots, {"heap": RING, "node": [2]}, {"limit": 1}),
+    (tracing.trace, {"heap": TREE, "node": 0}, {"limit": 1}),
+    (tracing.trace, {"heap": TREE, "node": [0]}, {"limit": 1}),
+    (fates.freed, {"heap": TREE, "node": 0}, {}),
+    (fates.kept, {"heap": RING, "node": 0}, {}),
+    (fates.fate, {"heap": RING, "node": 0, "target": 3}, {}),
+    (fates.fate, {"heap": TREE, "node": 0, "target": [3]}, {}),
+    (fatechecker.check_fate, {"heap": TREE, "node": 0, "target": 3, "value": ("freed", (0, 1, 3))}, {}),
+    (fatechecker.check_fate, {"heap": TREE, "node": 0, "target": 3, "value": ["freed", [[0], 1, 3]]}, {}),
+]
+
+
+def outcome(call):
+    """What a call returns, or the kind and the attributes of the error that it raises."""
+    try:
+        return ("returns", call())
+    except (errors.HeapError, errors.MissingError) as error:
+        return ("raises", type(error).__name__, sorted(vars(error).items()))
+
+
+class ConventionsTest(StrictCase):
+    def test_by_position_and_by_name(self):
+        for function, arguments, named in CALLS:
+            first = outcome(lambda: function(*arguments.values(), **named))
+            backwards = {name: arguments[name] for name in reversed(arguments)}
+            self.check(outcome(lambda: function(**named, **backwards)), first)
+
+    def test_signatures(self):
+        for function, arguments, named in CALLS:
+            parameters = inspect.signature(function).parameters.values()
+            plain = [p.name for p in parameters if p.kind is p.POSITIONAL_OR_KEYWORD and p.default is p.empty]
+            behind = [p.name for p in parameters if p.kind is p.KEYWORD_ONLY and p.default is p.empty]
+            self.assertEqual((plain, behind), (list(arguments), list(named)))
+            self.assertEqual(len(parameters), len(plain) + len(behind))
+
+    def test_the_star(self):
+        for function, arguments, named in CALLS:
+            if named:
+                self.assertRaises(TypeError, function, *arguments.values(), *named.values())
+                self.assertRaises(TypeError, function, *arguments.values())
+
+    def test_defined_where_they_are_listed(self):
+        for function, _, _ in CALLS:
+            modules = [heaps, reach, reachchecker, machine, tracing, fates, fatechecker]
+            self.assertTrue(any(vars(m).get(function.__name__) is function for m in modules
+                                if m.__name__ == function.__module__))
+
+    def test_arguments_stay(self):
+        for function, arguments, named in CALLS:
+            before = copy.deepcopy((arguments, named))
+            outcome(lambda: function(**arguments, **named))
+            for name in arguments:
+                self.check(arguments[name], before[0][name])
+            self.assertEqual(named, before[1])
+
+    def test_results_are_the_same_and_new(self):
+        for function, arguments, named in CALLS:
+            call = lambda: function(**arguments, **named)
+            first = outcome(call)
+            kept = copy.deepcopy(first)
+            if first[0] == "returns" and isinstance(first[1], list):
+                self.assertIsNot(call(), first[1])
+                first[1].append("changed")
+            self.check(outcome(call), kept)
+
+    def test_later_calls_leave_results_alone(self):
+        results = [outcome(lambda: function(**arguments, **named)) for function, arguments, named in CALLS]
+        kept = copy.deepcopy(results)
+        for function, arguments, named in CALLS:
+            outcome(lambda: function(**arguments, **named))
+        self.check(results, kept)
+
+    def test_nothing_is_changed_by_a_call_that_raises(self):
+        slots, outside = lists_of(TREE)
+        outside[0] = 10
+        self.assertRaises(errors.InvalidHeap, heaps.make_heap, slots, outside)
+        self.check([slots, outside], [lists_of(TREE[0]), [10, 0, 0, 0]])
+
+    def test_returned_heaps_may_be_passed_in_again(self):
+        for heap in HEAPS:
+            for node in [v for v in range(len(heap[0])) if heap[1][v]]:
+                after = machine.drop(heap, node, limit=1)[2]
+                self.check(heaps.make_heap(*after), after)
+                self.check(heaps.live_nodes(after), fates.kept(heap, node))
+
+
+if __name__ == "__main__":
+    unittest.main()
