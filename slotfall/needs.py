@@ -1,7 +1,7 @@
 """What a node must be before a function can work with it."""
 
-from slotfall.errors import NoNode, NoReference
-from slotfall.kinds import is_between
+from slotfall.errors import NoNode, NoReference, NotFreed
+from slotfall.kinds import is_between, is_integer
 
 
 def is_live(heap, value):
@@ -21,3 +21,9 @@ def need_reference(heap, node):
     need_live(heap, node)
     if heap[1][node] == 0:
         raise NoReference(node)
+
+
+def need_freed(freed, value):
+    """Raises NotFreed if the value is not one of the destroyed nodes."""
+    if not is_integer(value) or value not in freed:
+        raise NotFreed(value)

@@ -4,8 +4,12 @@ import copy
 import inspect
 import unittest
 
-from slotfall import errors, fatechecker, fates, heaps, machine, reach, reachchecker, tracing
-from tests.support import HEAPS, RING, TREE, StrictCase, lists_of
+from slotfall import (errors, fatechecker, fates, heaps, limits, machine, order, reach, reachchecker, releasetrees,
+                      tracing, treechecker)
+from tests.release_trees import BRANCHES
+from tests.support import HEAPS, RING, SHARED, TREE, StrictCase, lists_of
+
+MODULES = [fatechecker, fates, heaps, limits, machine, order, reach, reachchecker, releasetrees, tracing, treechecker]
 
 LISTED = [[[1, 2], [2, None], [0], None], [1, 0, 0, 0]]
 
@@ -38,6 +42,22 @@ CALLS = [
     (fates.fate, {"heap": TREE, "node": 0, "target": [3]}, {}),
     (fatechecker.check_fate, {"heap": TREE, "node": 0, "target": 3, "value": ("freed", (0, 1, 3))}, {}),
     (fatechecker.check_fate, {"heap": TREE, "node": 0, "target": 3, "value": ["freed", [[0], 1, 3]]}, {}),
+    (order.depths, {"tree": BRANCHES}, {}),
+    (order.node_before, {"tree": BRANCHES, "first": 2, "second": 3}, {"limit": 2}),
+    (order.node_before, {"tree": BRANCHES, "first": 2, "second": [3]}, {"limit": 2}),
+    (order.slot_before, {"tree": BRANCHES, "one": (1, 0), "other": (0, 1)}, {"limit": 3}),
+    (order.tree_log, {"tree": BRANCHES}, {"limit": 2}),
+    (releasetrees.release_tree, {"heap": SHARED, "node": 0}, {"limit": 1}),
+    (releasetrees.release_tree, {"heap": SHARED, "node": [0]}, {"limit": 1}),
+    (treechecker.check_tree, {"heap": SHARED, "node": 0, "value": ((), (0, 0), (1, 0))}, {"limit": 1}),
+    (treechecker.check_tree, {"heap": SHARED, "node": 0, "value": [[], [0, 0], [1, 0]]}, {"limit": 1}),
+    (limits.all_logs, {"heap": TREE, "node": 0}, {}),
+    (limits.all_logs, {"heap": TREE, "node": [0]}, {}),
+    (limits.limit_groups, {"heap": TREE, "node": 0}, {}),
+    (limits.limits_before, {"heap": TREE, "node": 0, "first": 3, "second": 2}, {}),
+    (limits.limits_before, {"heap": TREE, "node": 0, "first": [3], "second": [2]}, {}),
+    (limits.first_difference, {"one": TREE, "other": (TREE[0], (1, 0, 1, 0)), "node": 0}, {}),
+    (limits.first_difference, {"one": TREE, "other": SHARED, "node": [0]}, {}),
 ]
 
 
@@ -72,8 +92,7 @@ class ConventionsTest(StrictCase):
 
     def test_defined_where_they_are_listed(self):
         for function, _, _ in CALLS:
-            modules = [heaps, reach, reachchecker, machine, tracing, fates, fatechecker]
-            self.assertTrue(any(vars(m).get(function.__name__) is function for m in modules
+            self.assertTrue(any(vars(m).get(function.__name__) is function for m in MODULES
                                 if m.__name__ == function.__module__))
 
     def test_arguments_stay(self):
