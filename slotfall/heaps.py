@@ -39,7 +39,7 @@ def live_nodes(heap):
 def counts(heap):
     """The count of each node, None for a free node."""
     slots, outside = heap
-    uses = _slot_uses(slots)
+    uses = slot_uses(slots)
     return tuple([None if row is None else outside[node] + uses[node] for node, row in enumerate(slots)])
 
 
@@ -48,6 +48,17 @@ def holders(heap, node):
     need_live(heap, node)
     return [(holder, slot) for holder in live_nodes(heap)
             for slot, held in enumerate(heap[0][holder]) if held == node]
+
+
+def slot_uses(slots):
+    """How many slots hold each node."""
+    uses = [0] * len(slots)
+    for row in slots:
+        if row is not None:
+            for held in row:
+                if held is not None:
+                    uses[held] += 1
+    return uses
 
 
 def _first_problem(slots, outside):
@@ -66,7 +77,7 @@ def _first_problem(slots, outside):
 
 def _count_problem(slots, outside):
     """The first free node that is referred to, or else the first live one that is not."""
-    uses = _slot_uses(slots)
+    uses = slot_uses(slots)
     totals = [outside[node] + uses[node] for node in range(len(slots))]
     for node, row in enumerate(slots):
         if row is None and totals[node] > 0:
@@ -87,14 +98,3 @@ def _are_slots(row, many):
     if not is_row(row) or len(row) > MOST_SLOTS:
         return False
     return all([held is None or is_between(held, 0, many - 1) for held in row])
-
-
-def _slot_uses(slots):
-    """How many slots hold each node."""
-    uses = [0] * len(slots)
-    for row in slots:
-        if row is not None:
-            for held in row:
-                if held is not None:
-                    uses[held] += 1
-    return uses

@@ -1,5 +1,7 @@
 """The kinds of values that several modules tell apart."""
 
+GREATEST_LIMIT = 10 ** 30
+
 
 def is_integer(value):
     """True for an integer that is not a Boolean."""
@@ -9,6 +11,11 @@ def is_integer(value):
 def is_between(value, low, high):
     """True for an integer from low to high."""
     return is_integer(value) and low <= value <= high
+
+
+def is_limit(value):
+    """True for a limit."""
+    return is_between(value, 1, GREATEST_LIMIT)
 
 
 def is_pair(value):

@@ -4,12 +4,14 @@ import copy
 import inspect
 import unittest
 
-from slotfall import (errors, fatechecker, fates, heaps, limits, machine, order, reach, reachchecker, releasetrees,
-                      tracing, treechecker)
+from slotfall import (errors, fatechecker, fates, heaps, limits, logsets, machine, order, reach, reachchecker,
+                      releasetrees, shapes, shelves, tracing, treechecker, trees)
+from tests.plain_trees import EXAMPLE
 from tests.release_trees import BRANCHES
 from tests.support import HEAPS, RING, SHARED, TREE, StrictCase, lists_of
 
-MODULES = [fatechecker, fates, heaps, limits, machine, order, reach, reachchecker, releasetrees, tracing, treechecker]
+MODULES = [fatechecker, fates, heaps, limits, logsets, machine, order, reach, reachchecker, releasetrees, shapes, shelves,
+           tracing, treechecker, trees]
 
 LISTED = [[[1, 2], [2, None], [0], None], [1, 0, 0, 0]]
 
@@ -58,6 +60,34 @@ CALLS = [
     (limits.limits_before, {"heap": TREE, "node": 0, "first": [3], "second": [2]}, {}),
     (limits.first_difference, {"one": TREE, "other": (TREE[0], (1, 0, 1, 0)), "node": 0}, {}),
     (limits.first_difference, {"one": TREE, "other": SHARED, "node": [0]}, {}),
+    (shelves.shelf_history, {"heap": TREE, "node": 0}, {"limit": 1}),
+    (shelves.shelf_history, {"heap": TREE, "node": [0]}, {"limit": 1}),
+    (shelves.shelf_peak, {"heap": TREE, "node": 0}, {"limit": 1}),
+    (shelves.least_limit, {"heap": TREE, "node": 0}, {"most": 1}),
+    (shelves.least_limit, {"heap": TREE, "node": [0]}, {"most": 1}),
+    (trees.is_tree, {"value": EXAMPLE}, {}),
+    (trees.is_tree, {"value": [[1], []]}, {}),
+    (trees.make_tree, {"children": [[1, 2], [], []]}, {}),
+    (trees.make_tree, {"children": [[1, 2], [2], []]}, {}),
+    (trees.root_of, {"tree": EXAMPLE}, {}),
+    (trees.tree_heap, {"tree": EXAMPLE}, {}),
+    (trees.log_of, {"tree": EXAMPLE}, {"limit": 2}),
+    (shapes.is_shape, {"value": (2, 1, 0, 0)}, {}),
+    (shapes.is_shape, {"value": [2, 1, 0, 0]}, {}),
+    (shapes.shape_of, {"tree": EXAMPLE}, {}),
+    (shapes.count_shapes, {"size": 4}, {}),
+    (shapes.shape_index, {"shape": (2, 1, 0, 0)}, {}),
+    (shapes.shape_at, {"size": 4, "index": 1}, {}),
+    (shapes.shape_at, {"size": 4, "index": [1]}, {}),
+    (shapes.tree_with_log, {"shape": (2, 1, 0, 0), "log": (3, 0, 1, 2)}, {"limit": 1}),
+    (shapes.trees_with_log, {"log": (0, 1, 2)}, {"limit": 1}),
+    (shapes.trees_with_log, {"log": (0, 1, 2, 3, 4, 5, 6, 7, 8)}, {"limit": 1}),
+    (logsets.determines, {"limits": [2, 1]}, {"size": 3}),
+    (logsets.deciding_limits, {"limits": [3, 2, 1]}, {"size": 8}),
+    (logsets.needed_bound, {"size": 8}, {}),
+    (logsets.twin_trees, {"limits": [2, 1]}, {"size": 4}),
+    (logsets.tree_from_logs, {"logs": [(1, (0, 2, 1, 3)), (3, (0, 1, 3, 2))]}, {}),
+    (logsets.tree_from_logs, {"logs": [(1, (0, 2, 1, 3)), [3, [0, 1, 3, 2]]]}, {}),
 ]
 
 

@@ -64,18 +64,32 @@ class LanguageTest(unittest.TestCase):
             self.fail(place)
         for place, found in self.walk(ast.ImportFrom):
             self.assertEqual(found.level, 0, place)
-            self.assertTrue(found.module.startswith("slotfall."), place)
-            source = PACKAGE / (found.module.split(".")[1] + ".py")
-            defined = {node.name for node in ast.parse(source.read_text()).body if hasattr(node, "name")}
+            if found.module == "math":
+                defined = {"gcd", "lcm", "isqrt", "comb", "perm", "factorial"}
+            else:
+                self.assertTrue(found.module.startswith("slotfall."), place)
+                body = ast.parse((PACKAGE / (found.module.split(".")[1] + ".py")).read_text()).body
+                defined = {node.name for node in body if hasattr(node, "name")}
+                defined |= {target.id for node in body if isinstance(node, ast.Assign) for target in node.targets}
             for name in found.names:
                 self.assertIn(name.name, defined, place)
                 self.assertIsNone(name.asname, place)
+
+    def test_the_library_is_only_called(self):
+        for path, _, tree in self.sources():
+            taken = {name.name for found in tree.body if isinstance(found, ast.ImportFrom) and found.module == "math"
+                     for name in found.names}
+            calls = [found for found in ast.walk(tree) if isinstance(found, ast.Call) and not found.keywords]
+            called = [found.func for found in calls if isinstance(found.func, ast.Name)]
+            for found in ast.walk(tree):
+                if isinstance(found, ast.Name) and found.id in taken:
+                    self.assertIn(found, called, path.name)
 
     def test_no_two_files_import_from_each_other(self):
         needs = {path.stem: set() for path in FILES}
         for path, _, tree in self.sources():
             for found in ast.walk(tree):
-                if isinstance(found, ast.ImportFrom):
+                if isinstance(found, ast.ImportFrom) and found.module.startswith("slotfall."):
                     needs[path.stem].add(found.module.split(".")[1])
         while needs:
             free = [name for name in needs if not needs[name] & set(needs)]

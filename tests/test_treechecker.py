@@ -129,8 +129,9 @@ class RefusedTest(StrictCase):
             self.refused("slot", 1, MIXED, 0, changed(MIXED_TREE, (1, entry), (2, (0, 2)), (4, None)))
         self.refused("slot", 5, MIXED, 0, changed(MIXED_TREE, (5, (0, 1))))
         self.refused("slot", 7, MIXED, 0, changed(MIXED_TREE, (7, (0, 1))))
-        # An empty slot holds no node, not even where -1 would be the last slot.
-        self.refused("slot", 4, MIXED, 0, changed(MIXED_TREE, (4, (3, -2))))
+        # The only slot of node 2 holds 4, and the first of two slots of node 3; no number below 0 is one of a slot.
+        for entry in [(2, -1), (3, -2), (3, 1), (2, 1)]:
+            self.refused("slot", 4, MIXED, 0, changed(MIXED_TREE, (4, entry)))
         # Before a cycle at a smaller node, and before nodes that are left out.
         self.refused("slot", 3, RINGED, 0, (((), (2, 0), (1, 0), (2, 0))))
 
