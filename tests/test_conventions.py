@@ -4,16 +4,17 @@ import copy
 import inspect
 import unittest
 
-from slotfall import (errors, fatechecker, fates, heaps, limits, logsets, machine, order, reach, reachchecker,
-                      releasetrees, shapes, shelves, tracing, treechecker, trees)
+from slotfall import (errors, fatechecker, fates, heaps, limits, logsets, machine, order, packing, reach, reachchecker,
+                      regular, releasetrees, shapes, shelves, tracing, treechecker, trees, wanted, wantedchecker)
 from tests.plain_trees import EXAMPLE
 from tests.release_trees import BRANCHES
 from tests.support import HEAPS, RING, SHARED, TREE, StrictCase, lists_of
 
-MODULES = [fatechecker, fates, heaps, limits, logsets, machine, order, reach, reachchecker, releasetrees, shapes, shelves,
-           tracing, treechecker, trees]
+MODULES = [fatechecker, fates, heaps, limits, logsets, machine, order, packing, reach, reachchecker, regular, releasetrees,
+           shapes, shelves, tracing, treechecker, trees, wanted, wantedchecker]
 
 LISTED = [[[1, 2], [2, None], [0], None], [1, 0, 0, 0]]
+REGULAR = {"width": 2, "levels": 3, "limit": 2}
 
 # Each call: the function, its arguments in their order, and those behind the star. Some of them raise an error.
 CALLS = [
@@ -88,6 +89,25 @@ CALLS = [
     (logsets.twin_trees, {"limits": [2, 1]}, {"size": 4}),
     (logsets.tree_from_logs, {"logs": [(1, (0, 2, 1, 3)), (3, (0, 1, 3, 2))]}, {}),
     (logsets.tree_from_logs, {"logs": [(1, (0, 2, 1, 3)), [3, [0, 1, 3, 2]]]}, {}),
+    (wanted.forced_tree, {"tree": EXAMPLE, "wanted": (1, 0, 2, 3)}, {"limit": 2}),
+    (wanted.arrangement, {"tree": EXAMPLE, "wanted": (1, 0, 2, 3)}, {"limit": 2}),
+    (wanted.arrangement, {"tree": EXAMPLE, "wanted": (1, 0, 3, 2)}, {"limit": 2}),
+    (wantedchecker.check_arrangement, {"tree": EXAMPLE, "wanted": (1, 0, 2, 3), "value": ("swaps", ((1, 0, 1),))},
+     {"limit": 2}),
+    (wantedchecker.check_arrangement, {"tree": EXAMPLE, "wanted": (1, 0, 3, 2), "value": ("bar", 3, 2)}, {"limit": 2}),
+    (wantedchecker.check_arrangement, {"tree": EXAMPLE, "wanted": (1, 0, 2, 3), "value": ["swaps", [[1, 0, 1]]]},
+     {"limit": 2}),
+    (packing.least_peak, {"tree": ((1, 2), (3, 4, 5), (), (), (), ())}, {"limit": 1}),
+    (regular.regular_size, {}, {"width": 2, "levels": 3}),
+    (regular.regular_tree, {}, {"width": 2, "levels": 3}),
+    (regular.regular_tree, {}, {"width": 6, "levels": 100}),
+    (regular.regular_peak, {}, REGULAR),
+    (regular.position_of, {"path": (1, 0)}, REGULAR),
+    (regular.position_of, {"path": [1, 0]}, REGULAR),
+    (regular.path_at, {"position": 6}, REGULAR),
+    (regular.path_at, {"position": [6]}, REGULAR),
+    (regular.next_path, {"path": (1,)}, REGULAR),
+    (regular.next_path, {"path": [[1]]}, REGULAR),
 ]
 
 
