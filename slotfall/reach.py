@@ -19,18 +19,22 @@ def reach_certificate(heap, node):
     return ("unreached", tuple([other for other in live_nodes(heap) if other not in sources]))
 
 
-def _sources(heap):
-    """A dict from each reachable node to a reachable holder, or to None if it has an outside reference."""
-    slots, outside = heap
-    sources = {node: None for node in live_nodes(heap) if outside[node] > 0}
+def held_from(heap, starts):
+    """A dict from each of the starts, and each node that one of them leads to, to a holder; None for a start."""
+    sources = {node: None for node in starts}
     pending = list(sources)
     while pending:
         holder = pending.pop()
-        for held in slots[holder]:
+        for held in heap[0][holder]:
             if held is not None and held not in sources:
                 sources[held] = holder
                 pending.append(held)
     return sources
+
+
+def _sources(heap):
+    """A dict from each reachable node to a reachable holder, or to None if it has an outside reference."""
+    return held_from(heap, [node for node in live_nodes(heap) if heap[1][node] > 0])
 
 
 def _path_to(node, sources):

@@ -52,6 +52,10 @@ class Releasing:
         rows = [None if row is None else tuple(row) for row in self.slots]
         return (tuple(log), peak, (tuple(rows), tuple(self.outside)))
 
+    def spared(self):
+        """The nodes that lost a reference but not the last one, each as often as that happened."""
+        return [event[3] for event in self.events if event[0] == "release" and event[4] > 0]
+
     def _release_all(self):
         while self.emptied:
             holder, slot, node, depth = self.emptied.pop()

@@ -148,5 +148,6 @@ def great_cases():
             at, other = chance.sample(range(n), 2)
             changed = list(log)
             changed[at], changed[other] = changed[other], changed[at]
-            for wanted in [log, plain_log(tree, limit), tuple(changed), tuple(chance.sample(range(n), n)), tuple(range(n))]:
+            for wanted in [log, plain_log(tree, limit), tuple(changed), tuple(chance.sample(range(n), n)),
+                           tuple(range(n))]:
                 yield tree, wanted, limit

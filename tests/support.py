@@ -81,6 +81,17 @@ def plain_counts(heap):
     return tuple(found)
 
 
+def plain_reachable(heap):
+    """Adds nodes as the document says until nothing changes."""
+    slots, outside = heap
+    found = {v for v in plain_live(heap) if outside[v] > 0}
+    while True:
+        more = found | {held for v in found for held in slots[v] if held is not None}
+        if more == found:
+            return sorted(found)
+        found = more
+
+
 def random_heap(seed, most=8, width=4):
     """A heap that depends on the seed only."""
     chance = random.Random(seed)

@@ -4,15 +4,18 @@ import copy
 import inspect
 import unittest
 
-from slotfall import (errors, fatechecker, fates, heaps, limits, logsets, machine, order, packing, reach, reachchecker,
-                      regular, releasetrees, shapes, shelves, tracing, treechecker, trees, wanted, wantedchecker)
+from slotfall import (collecting, desk, errors, fatechecker, fates, formatting, heaps, limits, logsets, machine, order,
+                      packing, parsing, reach, reachchecker, regular, releasetrees, shapes, shelves, store, tracing,
+                      treechecker, trees, wanted, wantedchecker)
+from tests.plain_store import loose_heap
 from tests.plain_trees import EXAMPLE
 from tests.release_trees import BRANCHES
-from tests.support import HEAPS, RING, SHARED, TREE, StrictCase, lists_of
+from tests.support import APART, HEAPS, HOLES, RING, SHARED, TREE, StrictCase, lists_of
 
-MODULES = [fatechecker, fates, heaps, limits, logsets, machine, order, packing, reach, reachchecker, regular, releasetrees,
-           shapes, shelves, tracing, treechecker, trees, wanted, wantedchecker]
+MODULES = [collecting, fatechecker, fates, formatting, heaps, limits, logsets, machine, order, packing, parsing, reach,
+           reachchecker, regular, releasetrees, shapes, shelves, tracing, treechecker, trees, wanted, wantedchecker]
 
+NEEDED = inspect.Parameter.empty
 LISTED = [[[1, 2], [2, None], [0], None], [1, 0, 0, 0]]
 REGULAR = {"width": 2, "levels": 3, "limit": 2}
 
@@ -108,6 +111,16 @@ CALLS = [
     (regular.path_at, {"position": [6]}, REGULAR),
     (regular.next_path, {"path": (1,)}, REGULAR),
     (regular.next_path, {"path": [[1]]}, REGULAR),
+    (collecting.collect, {"heap": APART}, {"limit": 1}),
+    (formatting.format_heap, {"heap": HOLES}, {}),
+    (formatting.format_tree, {"tree": EXAMPLE}, {}),
+    (formatting.format_log, {"log": [0, 12]}, {}),
+    (parsing.parse_heap, {"text": "1 1 -\n0\nfree"}, {}),
+    (parsing.parse_heap, {"text": "1 1\n0 2"}, {}),
+    (parsing.parse_tree, {"text": "2 1\n-\n-"}, {}),
+    (parsing.parse_tree, {"text": "1\n0"}, {}),
+    (parsing.parse_log, {"text": "0 12 7"}, {}),
+    (parsing.parse_log, {"text": "3 1 3"}, {}),
 ]
 
 
@@ -182,6 +195,74 @@ class ConventionsTest(StrictCase):
                 after = machine.drop(heap, node, limit=1)[2]
                 self.check(heaps.make_heap(*after), after)
                 self.check(heaps.live_nodes(after), fates.kept(heap, node))
+
+    def test_texts_that_were_returned_may_be_passed_in_again(self):
+        for heap in HEAPS:
+            self.check(parsing.parse_heap(formatting.format_heap(heap)), heap)
+            for node in [v for v in range(len(heap[0])) if heap[1][v]]:
+                log, _, after = machine.drop(heap, node, limit=1)
+                self.check(parsing.parse_log(formatting.format_log(log)), log)
+                self.check(store.Store(after).heap(), after)
+
+
+# The methods of each class with their parameters; a value stands for a default.
+METHODS = {
+    store.Store: [("new", {"width": 0}), ("hold", {"node": NEEDED}), ("drop", {"node": NEEDED}),
+                  ("put", {"node": NEEDED, "slot": NEEDED, "target": NEEDED}), ("empty_slots", {"node": NEEDED}),
+                  ("collect", {}), ("collect_local", {}), ("set_limit", {"limit": NEEDED}), ("undo", {"count": 1}),
+                  ("heap", {}), ("current_limit", {}), ("free_numbers", {}), ("candidates", {}), ("history", {}),
+                  ("destroyed", {}), ("twin", {})],
+    desk.Desk: [("execute", {"command": NEEDED})],
+}
+
+
+class ClassesTest(StrictCase):
+    def test_methods(self):
+        for owner, methods in METHODS.items():
+            for name, expected in methods:
+                self.assertIn(name, vars(owner))
+                _, *parameters = inspect.signature(vars(owner)[name]).parameters.values()
+                self.assertEqual({p.name: p.default for p in parameters}, expected)
+                self.assertTrue(all(p.kind is p.POSITIONAL_OR_KEYWORD for p in parameters))
+        for name in ("__init__", "__len__", "__eq__", "__str__", "__repr__"):
+            self.assertIn(name, vars(store.Store))
+
+    def test_constructors(self):
+        parameters = inspect.signature(store.Store).parameters.values()
+        self.assertEqual([(p.name, p.default, p.kind is p.KEYWORD_ONLY) for p in parameters],
+                         [("heap", ((), ()), False), ("limit", 50, True), ("observer", None, True)])
+        parameters = inspect.signature(desk.Desk).parameters.values()
+        self.assertEqual([(p.name, p.default, p.kind) for p in parameters],
+                         [("text", "", inspect.Parameter.POSITIONAL_OR_KEYWORD)])
+
+    def test_defined_where_they_are_listed(self):
+        self.assertEqual((store.Store.__module__, desk.Desk.__module__), ("slotfall.store", "slotfall.desk"))
+
+    def test_arguments_stay_and_results_are_new(self):
+        # A store is given heaps, and gives them back, as tuples of tuples: nothing that anyone could change.
+        heap = loose_heap(5)
+        kept = copy.deepcopy(heap)
+        one = store.Store(heap, limit=1)
+        told = [one.heap(), one.collect_local(), one.free_numbers(), one.history(), one.destroyed(), one.candidates()]
+        kept_told = copy.deepcopy(told)
+        one.new(3)
+        one.undo(2)
+        self.check(heap, kept)
+        self.check(told, kept_told)
+        self.assertTrue(only_tuples(told[0]) and all(only_tuples(value) for value in told))
+
+    def test_the_same_actions_give_the_same_results(self):
+        for seed in range(20):
+            one, other = store.Store(loose_heap(seed), limit=2), store.Store(loose_heap(seed), limit=2)
+            self.check([one.collect_local(), one.new(2), one.undo(), repr(one)],
+                       [other.collect_local(), other.new(2), other.undo(), repr(other)])
+            self.check(one == other, True)
+
+
+def only_tuples(value):
+    if isinstance(value, tuple):
+        return all(only_tuples(entry) for entry in value)
+    return value is None or type(value) in (int, str)
 
 
 if __name__ == "__main__":

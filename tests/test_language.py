@@ -19,8 +19,8 @@ BARRED_NAMES = set("""register mro elements open input law version_info with_tra
     builtins compile copyright credits delattr dir eval exec exit gc globals help id importlib license locals
     methodcaller os quit super type vars hash next map round filter format print sys""".split())
 BARRED_WORDS = re.compile(r"\b(type|typing|enum|Enum|IntEnum|Flag|Generic|Protocol|ABC|namedtuple|NamedTuple)\b")
-NODES = (ast.Global, ast.AsyncFunctionDef, ast.GeneratorExp, ast.Yield, ast.YieldFrom, ast.Try, ast.Div, ast.Lambda,
-         ast.AnnAssign, ast.Set, ast.SetComp, ast.NamedExpr, ast.With, ast.Starred, ast.JoinedStr)
+NODES = (ast.Global, ast.Nonlocal, ast.AsyncFunctionDef, ast.GeneratorExp, ast.Yield, ast.YieldFrom, ast.Div, ast.Lambda,
+         ast.AnnAssign, ast.Set, ast.SetComp, ast.NamedExpr, ast.With, ast.Match, ast.Assert, ast.Delete)
 
 
 class LanguageTest(unittest.TestCase):
@@ -108,6 +108,7 @@ class LanguageTest(unittest.TestCase):
             bound |= {n.arg for n in ast.walk(tree) if isinstance(n, ast.arg)}
             bound |= {n.id for n in ast.walk(tree) if isinstance(n, ast.Name) and isinstance(n.ctx, ast.Store)}
             bound |= {n.name for found in ast.walk(tree) if isinstance(found, ast.ImportFrom) for n in found.names}
+            bound |= {n.name for n in ast.walk(tree) if isinstance(n, ast.ExceptHandler)}
             self.assertFalse(bound & (BUILTINS | BARRED_NAMES), path.name)
             used = {n.id for n in ast.walk(tree) if isinstance(n, ast.Name)}
             self.assertFalse(used - bound - BUILTINS, path.name)
@@ -130,7 +131,7 @@ class LanguageTest(unittest.TestCase):
         for place, found in self.walk(ast.Name, ast.arg, ast.Attribute, ast.FunctionDef, ast.ClassDef):
             name = getattr(found, "id", None) or getattr(found, "arg", None) or getattr(found, "attr", None)
             name = name or found.name
-            self.assertRegex(name, r"^(_?[A-Za-z][A-Za-z0-9_]*|_|__init__)$", place)
+            self.assertRegex(name, r"^(_?[A-Za-z][A-Za-z0-9_]*|_|__(init|len|eq|str|repr)__)$", place)
             self.assertNotRegex(name, r"^_(wall|pe_|dcw_|enum_|cm_|twin_re_|lay_|law_|stub_|sre|outside|record)", place)
         for place, found in self.walk(ast.Constant):
             self.assertNotIsInstance(found.value, (float, complex), place)
@@ -148,7 +149,47 @@ class LanguageTest(unittest.TestCase):
         for place, found in self.walk(ast.FunctionDef):
             self.assertEqual(found.decorator_list, [], place)
             for default in found.args.defaults + [value for value in found.args.kw_defaults if value is not None]:
-                self.assertIsInstance(default, ast.Constant, place)
+                for part in ast.walk(default):
+                    self.assertIsInstance(part, (ast.Constant, ast.Tuple, ast.Load), place)
+
+    def test_stars(self):
+        # Only the last argument of a call and the last parameter of a function have one.
+        in_calls = 0
+        for place, found in self.walk(ast.Call):
+            if any(isinstance(argument, ast.Starred) for argument in found.args):
+                in_calls += 1
+                self.assertFalse(any(isinstance(argument, ast.Starred) for argument in found.args[:-1]), place)
+                self.assertEqual((type(found.args[-1].value), found.keywords), (ast.Name, []), place)
+        self.assertEqual(len(list(self.walk(ast.Starred))), in_calls)
+        for place, found in self.walk(ast.FunctionDef):
+            self.assertIsNone(found.args.kwarg, place)
+
+    def test_errors_are_caught_by_name(self):
+        own = {found.name for place, found in self.walk(ast.ClassDef) if place.startswith("errors.py")}
+        own -= {"HeapError", "MissingError"}
+        for place, found in self.walk(ast.ExceptHandler):
+            self.assertIn(getattr(found.type, "id", None), own, place)
+        for place, found in self.walk(ast.Raise):
+            self.assertIn(getattr(getattr(found.exc, "func", None), "id", None), own, place)
+        for place, found in self.walk(ast.Try):
+            for end in found.finalbody:
+                self.assertIsInstance(end, ast.Assign, place)
+                self.assertIsInstance(end.value, ast.Constant, place)
+
+    def test_special_methods(self):
+        for place, found in self.walk(ast.FunctionDef):
+            if found.name in ("__len__", "__eq__", "__str__", "__repr__"):
+                self.assertEqual([type(part) for part in found.body], [ast.Return], place)
+            if found.name == "__len__":
+                self.assertEqual(found.body[0].value.func.id, "len", place)
+            if found.name in ("__str__", "__repr__"):
+                told = found.body[0].value
+                self.assertTrue(isinstance(told, ast.JoinedStr) or told.func.id == "str", place)
+        for place, found in self.walk(ast.JoinedStr):
+            for part in found.values:
+                if isinstance(part, ast.FormattedValue):
+                    inner = [type(found) for found in ast.walk(part)]
+                    self.assertFalse({ast.JoinedStr, ast.Constant} & set(inner), place)
 
 
 if __name__ == "__main__":

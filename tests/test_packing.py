@@ -6,8 +6,8 @@ import unittest
 from slotfall.machine import drop
 from slotfall.packing import least_peak
 from slotfall.trees import is_tree
-from tests.plain_trees import (BACKWARDS_40, COMB_40, EXAMPLE, PATH_40, STAR_40, all_shapes, all_trees, numbered, plain_heap,
-                               plain_root, random_tree)
+from tests.plain_trees import (BACKWARDS_40, COMB_40, EXAMPLE, PATH_40, STAR_40, all_shapes, all_trees, numbered,
+                               plain_heap, plain_root, random_tree)
 from tests.rearranged import BUSHY_40, GREAT, SIXES, TREES_40, entries, plain_peak, rearrangements
 from tests.release_trees import plain_depth
 from tests.support import StrictCase

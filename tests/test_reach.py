@@ -5,22 +5,11 @@ import unittest
 from slotfall.errors import NoNode
 from slotfall.reach import reach_certificate, reachable
 from tests.support import (APART, EMPTY, HEAPS, HOLES, LONG_PATH, LOOP, MANY, NO_NODES, RING, SHARED, TWICE, StrictCase,
-                           plain_live, random_heap)
+                           plain_live, plain_reachable, random_heap)
 
 ALONE = (((0,),), (0,))
 TWO_RINGS = (((1, 1), (0, None), (3, 0), (2,), None, ()), (0, 0, 0, 0, 0, 1))
 ONE_WAY = (((1,), (0,), (0, 3), (2,), (1,)), (0, 1, 0, 0, 0))
-
-
-def defined_reachable(heap):
-    """Adds nodes as the document says until nothing changes."""
-    slots, outside = heap
-    found = {v for v in plain_live(heap) if outside[v] > 0}
-    while True:
-        more = found | {held for v in found for held in slots[v] if held is not None}
-        if more == found:
-            return sorted(found)
-        found = more
 
 
 class ReachableTest(StrictCase):
@@ -37,7 +26,7 @@ class ReachableTest(StrictCase):
 
     def test_by_the_definition(self):
         for heap in HEAPS + [random_heap(seed) for seed in range(300)]:
-            self.check(reachable(heap), defined_reachable(heap))
+            self.check(reachable(heap), plain_reachable(heap))
 
 
 class CertificateTest(StrictCase):
@@ -49,7 +38,7 @@ class CertificateTest(StrictCase):
         label, entries = value
         self.assertIs(type(entries), tuple)
         self.assertTrue(all(type(v) is int and v in plain_live(heap) for v in entries))
-        self.assertEqual(label, "reached" if node in defined_reachable(heap) else "unreached")
+        self.assertEqual(label, "reached" if node in plain_reachable(heap) else "unreached")
         if label == "reached":
             self.assertGreater(outside[entries[0]], 0)
             for before, entry in zip(entries, entries[1:]):

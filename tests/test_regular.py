@@ -191,7 +191,8 @@ class PositionTest(StrictCase):
 
     def test_positions_by_hand(self):
         # Preorder with the first children first, and with the last ones first.
-        self.check(position_of((5, 5), width=6, levels=100, limit=GREAT), 2 + 5 * count_nodes(6, 99) + 5 * count_nodes(6, 98))
+        self.check(position_of((5, 5), width=6, levels=100, limit=GREAT),
+                   2 + 5 * count_nodes(6, 99) + 5 * count_nodes(6, 98))
         self.check(position_of((5, 4), width=6, levels=100, limit=1), 2 + count_nodes(6, 98))
         self.check(position_of((5, 4), width=6, levels=100, limit=2), 7 + count_nodes(6, 98))
         self.check(position_of((0,) * 99, width=1, levels=100, limit=7), 99)

@@ -8,8 +8,8 @@ from slotfall.errors import InvalidCertificate
 from slotfall.wanted import arrangement
 from slotfall.wantedchecker import check_arrangement
 from tests.plain_trees import STAR_40, all_shapes, all_trees, numbered, plain_log
-from tests.rearranged import (GREAT, bar_case, distances, fewest, great_cases, plain_forced, possible_swaps, small_cases,
-                              swapped)
+from tests.rearranged import (GREAT, bar_case, distances, fewest, great_cases, plain_forced, possible_swaps,
+                              small_cases, swapped)
 from tests.support import NO_NODES, StrictCase, lists_of
 
 TREE = ((1, 2), (3,), (), ())
@@ -46,8 +46,8 @@ class AcceptedTest(StrictCase):
                 self.refuses_swaps("log", FORK, wanted, swaps, 2)
 
     def refuses_swaps(self, reason, tree, wanted, swaps, limit):
-        self.fails(InvalidCertificate, {"reason": reason, "index": -1}, check_arrangement, tree, wanted, ("swaps", swaps),
-                   limit=limit)
+        self.fails(InvalidCertificate, {"reason": reason, "index": -1}, check_arrangement, tree, wanted,
+                   ("swaps", swaps), limit=limit)
 
     def test_all_short_rows_of_swaps(self):
         for n in range(1, 6):
@@ -91,8 +91,8 @@ class AcceptedTest(StrictCase):
                 continue
             cases.add(bar_case(tree, wanted, first, second, limit))
             if bar_case(tree, wanted, first, second, limit) is None:
-                self.fails(InvalidCertificate, {"reason": "possible", "index": -1}, check_arrangement, tree, wanted, value,
-                           limit=limit)
+                self.fails(InvalidCertificate, {"reason": "possible", "index": -1}, check_arrangement, tree, wanted,
+                           value, limit=limit)
             else:
                 self.check(check_arrangement(tree, wanted, value, limit=limit), None)
         return cases
@@ -114,7 +114,8 @@ class AcceptedTest(StrictCase):
 
 class RefusedTest(StrictCase):
     def refused(self, reason, index, value, tree=FORK, wanted=SWAPPED, limit=2):
-        self.fails(InvalidCertificate, {"reason": reason, "index": index}, check_arrangement, tree, wanted, value, limit=limit)
+        self.fails(InvalidCertificate, {"reason": reason, "index": index}, check_arrangement, tree, wanted, value,
+                   limit=limit)
 
     def test_example(self):
         self.refused("log", -1, ("swaps", ()), TREE, (0, 2, 1, 3), 4)
@@ -122,9 +123,11 @@ class RefusedTest(StrictCase):
     def test_shape(self):
         good = ((0, 0, 1), (1, 0, 1))
         values = [None, True, False, 0, -1, 10 ** 99, "", "swaps", "bar", [], (), ("swaps",), ("bar",), ("bar", 3),
-                  ("bar", 3, 1, 0), ("bar", (3, 1)), ("swaps", good, ()), ("swaps", (0, 0, 1), (1, 0, 1)), ["swaps", good],
+                  ("bar", 3, 1, 0), ("bar", (3, 1)), ("swaps", good, ()), ("swaps", (0, 0, 1), (1, 0, 1)),
+                  ["swaps", good],
                   ["bar", 3, 1], ("swaps", list(good)), ("swaps", []), ("swaps", None), ("swaps", 2), ("swaps", "ab"),
-                  ("Swaps", good), ("swaps ", good), ("", good), ("bars", 3, 1), ("BAR", 3, 1), (None, good), (None, 3, 1),
+                  ("Swaps", good), ("swaps ", good), ("", good), ("bars", 3, 1), ("BAR", 3, 1), (None, good),
+                  (None, 3, 1),
                   (True, 3, 1), (("bar",), 3, 1), (["swaps"], good), (good, "swaps"), (3, 1, "bar"), ("swap", good),
                   ("bar", good), ("swaps", 3, 1), (0, 0), (0, 1, 2)]
         for value in values:
@@ -134,8 +137,10 @@ class RefusedTest(StrictCase):
 
     def test_swap(self):
         good = [(0, 0, 1), (1, 0, 1)]
-        bad = [None, True, 0, "", "001", (), [], (0,), (0, 0), (0, 0, 1, 1), [0, 0, 1], [[0, 0, 1]], ((0, 0, 1),), (0, 1, 0),
-               (0, 1, 1), (0, 0, 0), (0, -1, 1), (0, -2, -1), (0, 0, 3), (0, 2, 3), (1, 0, 2), (1, 1, 2), (3, 0, 1), (4, 0, 1),
+        bad = [None, True, 0, "", "001", (), [], (0,), (0, 0), (0, 0, 1, 1), [0, 0, 1], [[0, 0, 1]], ((0, 0, 1),),
+               (0, 1, 0),
+               (0, 1, 1), (0, 0, 0), (0, -1, 1), (0, -2, -1), (0, 0, 3), (0, 2, 3), (1, 0, 2), (1, 1, 2), (3, 0, 1),
+               (4, 0, 1),
                (8, 0, 1), (-1, 0, 1), (40, 0, 1), (0, 0, 10 ** 99), (0, -10 ** 99, 1), (10 ** 99, 0, 1), (0, 0, True),
                (0, False, 1), (False, 0, 1), (True, 0, 1), ("0", 0, 1), (0, "0", 1), (0, 0, "1"), (0, 0, None),
                (None, 0, 1), (0, None, 1), (0, (0,), 1), (0, 0, [1]), ([0], 0, 1), ((), 0, 1)]
